@@ -95,6 +95,14 @@ class Ratio:
         return _gap(self, other) >= 0
 
 
+def common_divisor(numbers):
+    """Return the greatest whole number that divides all these numbers, not all of them 0."""
+    divisor = 0
+    for number in numbers:
+        divisor = gcd(divisor, number)
+    return divisor
+
+
 def _as_ratio(number):
     """Return the Ratio of a Ratio or a whole number."""
     if isinstance(number, Ratio):
