@@ -67,6 +67,7 @@ class Wish:
         self.things = tuple(things)
 
     def __call__(self, lot):
+        """Return the first one of the things that is in the lot, or None."""
         return _first_wish(self.things, lot)
 
 
