@@ -11,11 +11,29 @@ def check_many(many, most):
 
 def check_prices(prices, many):
     """Raise BadNumber if the prices are not those of `many` things."""
-    if len(prices) != many:
-        raise BadNumber("prices", None)
+    check_length("prices", prices, many)
     for thing, price in enumerate(prices):
         if price < 0:
             raise BadNumber("prices", thing)
+
+
+def check_length(what, items, many):
+    """Raise BadNumber if there are not `many` items."""
+    if len(items) != many:
+        raise BadNumber(what, None)
+
+
+def check_from_one(what, numbers):
+    """Raise BadNumber if one of the numbers is below 1."""
+    for at, number in enumerate(numbers):
+        if number < 1:
+            raise BadNumber(what, at)
+
+
+def check_aside(aside):
+    """Raise BadNumber if the aside weight is below 1."""
+    if aside < 1:
+        raise BadNumber("aside", None)
 
 
 def check_lot(lot, many):

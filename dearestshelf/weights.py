@@ -1,7 +1,6 @@
 """Buyers by weights."""
 
-from dearestshelf.checks import check_lot
-from dearestshelf.errors import BadNumber
+from dearestshelf.checks import check_aside, check_from_one, check_lot
 from dearestshelf.ratios import Ratio, common_divisor
 from dearestshelf.rules import Rule
 
@@ -11,11 +10,8 @@ class Weighted(Rule):
 
     def __init__(self, weights, aside):
         super().__init__(len(weights))
-        for thing, weight in enumerate(weights):
-            if weight < 1:
-                raise BadNumber("weights", thing)
-        if aside < 1:
-            raise BadNumber("aside", None)
+        check_from_one("weights", weights)
+        check_aside(aside)
         self.weights = tuple(weights)
         self.aside = aside
 
