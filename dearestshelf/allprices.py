@@ -1,11 +1,9 @@
 """What the dearest things lose against the best lot, for all prices at once."""
 
-from math import lcm
-
 from dearestshelf.checks import check_lot, check_many
 from dearestshelf.games import solve_game
 from dearestshelf.lots import first_things, lots, orders
-from dearestshelf.ratios import Ratio
+from dearestshelf.ratios import Ratio, common_bottom
 
 MOST_PRICED_THINGS = 4
 
@@ -46,7 +44,7 @@ class Shortfall:
         self.prices = None
         shares = {lot: rule.shares(lot) for lot in _lots_of(among)}
         # All shares times this number are whole, as the numbers of a game must be.
-        self._total = _common_bottom(shares)
+        self._total = common_bottom([share for lot in shares for share in shares[lot]])
         self._counts = {lot: [(share * self._total).top for share in shares[lot]] for lot in shares}
         for order in orders(among):
             for lot in _lots_of(among):
@@ -77,15 +75,6 @@ class Shortfall:
 def _lots_of(things):
     """Return all lots of these things, in ascending order of their numbers."""
     return [tuple([things[at] for at in places]) for places in lots(len(things))]
-
-
-def _common_bottom(shares):
-    """Return the least whole number that makes all shares of all lots whole."""
-    total = 1
-    for lot in shares:
-        for share in shares[lot]:
-            total = lcm(total, share.bottom)
-    return total
 
 
 def _prices_of(step_mix, order, many):

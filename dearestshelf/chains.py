@@ -1,6 +1,6 @@
 """Buyers who step on from thing to thing."""
 
-from dearestshelf.checks import check_aside, check_from_one, check_length, check_lot, check_many, check_prices
+from dearestshelf.checks import check_aside, check_each, check_length, check_lot, check_many, check_prices
 from dearestshelf.errors import BadNumber
 from dearestshelf.ratios import Ratio
 from dearestshelf.rules import Rule
@@ -14,11 +14,11 @@ class Stepping(Rule):
     def __init__(self, first, aside, steps, leaves):
         check_many(len(first), MOST_STEPPED_THINGS)
         super().__init__(len(first))
-        check_from_one("first", first)
+        check_each("first", first, 1)
         check_aside(aside)
         _check_steps(steps, self.many)
         check_length("leaves", leaves, self.many)
-        check_from_one("leaves", leaves)
+        check_each("leaves", leaves, 1)
         self.first = tuple(first)
         self.aside = aside
         self.steps = tuple([tuple(row) for row in steps])

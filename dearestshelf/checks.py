@@ -12,9 +12,7 @@ def check_many(many, most):
 def check_prices(prices, many):
     """Raise BadNumber if the prices are not those of `many` things."""
     check_length("prices", prices, many)
-    for thing, price in enumerate(prices):
-        if price < 0:
-            raise BadNumber("prices", thing)
+    check_each("prices", prices, 0)
 
 
 def check_length(what, items, many):
@@ -23,17 +21,28 @@ def check_length(what, items, many):
         raise BadNumber(what, None)
 
 
-def check_from_one(what, numbers):
-    """Raise BadNumber if one of the numbers is below 1."""
+def check_each(what, numbers, least):
+    """Raise BadNumber if one of the numbers is below `least`."""
     for at, number in enumerate(numbers):
-        if number < 1:
+        if number < least:
             raise BadNumber(what, at)
+
+
+def check_least(what, number, least):
+    """Raise BadNumber if the number is below `least`."""
+    if number < least:
+        raise BadNumber(what, None)
+
+
+def check_up_to(what, number, most):
+    """Raise BadNumber if the number is not from 0 to `most`."""
+    if number < 0 or number > most:
+        raise BadNumber(what, None)
 
 
 def check_aside(aside):
     """Raise BadNumber if the aside weight is below 1."""
-    if aside < 1:
-        raise BadNumber("aside", None)
+    check_least("aside", aside, 1)
 
 
 def check_lot(lot, many):

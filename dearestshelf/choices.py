@@ -1,7 +1,6 @@
 """The best lot of a rule by weights under limits."""
 
-from dearestshelf.checks import check_length, check_lot, check_prices
-from dearestshelf.errors import BadNumber
+from dearestshelf.checks import check_least, check_length, check_lot, check_prices
 from dearestshelf.lots import dearest_order, first_things
 from dearestshelf.ratios import Ratio
 
@@ -58,8 +57,7 @@ class AtMost(Choice):
 
     def __init__(self, rule, prices, *, most):
         Choice.__init__(self, rule, prices)
-        if most < 0:
-            raise BadNumber("most", None)
+        check_least("most", most, 0)
         self.most = most
 
     def allowed(self, lot):

@@ -1,6 +1,6 @@
 """Lots of things, their numbers, and orders of things."""
 
-from dearestshelf.errors import BadNumber
+from dearestshelf.checks import check_up_to
 
 
 def lots(many):
@@ -42,8 +42,7 @@ def dearest_order(prices):
 
 def first_things(order, k):
     """Return the lot of the first k things of an order."""
-    if k < 0 or k > len(order):
-        raise BadNumber("k", None)
+    check_up_to("k", k, len(order))
     return tuple(sorted(order[:k], key=int))
 
 

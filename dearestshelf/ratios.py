@@ -1,6 +1,6 @@
 """Exact fractions."""
 
-from math import gcd
+from math import gcd, lcm
 
 from dearestshelf.errors import BadText, ZeroBottom
 
@@ -101,6 +101,22 @@ def common_divisor(numbers):
     for number in numbers:
         divisor = gcd(divisor, number)
     return divisor
+
+
+def common_bottom(ratios):
+    """Return the least whole number above 0 that makes all these Ratios whole if it multiplies them."""
+    bottom = 1
+    for ratio in ratios:
+        bottom = lcm(bottom, ratio.bottom)
+    return bottom
+
+
+def whole_proportion(ratios):
+    """Return whole numbers in the proportion of these Ratios, not all of them 0, which nothing above 1 divides all."""
+    bottom = common_bottom(ratios)
+    numbers = [ratio.top * (bottom // ratio.bottom) for ratio in ratios]
+    divisor = common_divisor(numbers)
+    return [number // divisor for number in numbers]
 
 
 def _as_ratio(number):

@@ -1,11 +1,9 @@
 """Rules by a told table."""
 
-from math import lcm
-
 from dearestshelf.checks import check_lot, check_many
 from dearestshelf.errors import BadTable
 from dearestshelf.lots import lot_at, lot_number, lots
-from dearestshelf.ratios import Ratio, common_divisor
+from dearestshelf.ratios import Ratio, common_divisor, whole_proportion
 from dearestshelf.rules import Rule
 
 MOST_TABLED_THINGS = 6
@@ -28,7 +26,7 @@ class Tabled(Rule):
     def of(cls, rule):
         """Return the table of all shares of a rule."""
         check_many(rule.many, MOST_TABLED_THINGS)
-        return cls(rule.many, [_row_of(rule.shares(lot)) for lot in lots(rule.many)])
+        return cls(rule.many, [whole_proportion([Ratio(1), *rule.shares(lot)]) for lot in lots(rule.many)])
 
     def __eq__(self, other):
         return isinstance(other, Tabled) and self.many == other.many and self.rows == other.rows
@@ -53,11 +51,3 @@ def _reduced_row(row):
     """Return the row divided by the greatest whole number that divides all its items."""
     divisor = common_divisor(row)
     return tuple([item // divisor for item in row])
-
-
-def _row_of(shares):
-    """Return the row of a lot whose things have these shares."""
-    total = 1
-    for share in shares:
-        total = lcm(total, share.bottom)
-    return [total] + [share.top * (total // share.bottom) for share in shares]

@@ -1,6 +1,6 @@
 """Buyers by weights."""
 
-from dearestshelf.checks import check_aside, check_from_one, check_lot
+from dearestshelf.checks import check_aside, check_each, check_lot
 from dearestshelf.ratios import Ratio, common_divisor
 from dearestshelf.rules import Rule
 
@@ -10,7 +10,7 @@ class Weighted(Rule):
 
     def __init__(self, weights, aside):
         super().__init__(len(weights))
-        check_from_one("weights", weights)
+        check_each("weights", weights, 1)
         check_aside(aside)
         self.weights = tuple(weights)
         self.aside = aside

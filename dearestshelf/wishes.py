@@ -1,11 +1,9 @@
 """Lists of wishes behind a table of shares."""
 
-from math import lcm
-
 from dearestshelf.checks import check_lot
 from dearestshelf.errors import NotLists
 from dearestshelf.lots import lots
-from dearestshelf.ratios import Ratio
+from dearestshelf.ratios import Ratio, common_bottom
 from dearestshelf.rules import Listed
 
 
@@ -30,9 +28,7 @@ def lists_of(table):
     step, until a step with None ends it.
     """
     sums = _checked_sums(table)
-    everyone = 1
-    for step in sums:
-        everyone = lcm(everyone, sums[step].bottom)
+    everyone = common_bottom(list(sums.values()))
     buyers_left = {step: (sums[step] * everyone).top for step in sums}
     wishes = []
     way = _way_of_some(buyers_left, table.many)
