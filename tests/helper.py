@@ -112,15 +112,11 @@ class ShelfTest(unittest.TestCase):
 
     def assert_wrong_prices(self, rule, *methods):
         """Check what methods with one argument, the prices, and `worth` say of wrong prices."""
-        many = rule.many
-        wrong = [([1] * (many + 1), None), ([-1] * (many + 1), None)]
-        if many > 0:
-            wrong = wrong + [([1] * (many - 1), None), ([-1] * many, 0), ([1] * (many - 1) + [-1], many - 1)]
-        for prices, at in wrong:
+        for prices, at in wrong_prices(rule.many):
             kept = list(prices)
             for method in methods:
                 self.assert_number("prices", at, method, prices)
-            for lot in [(), *wrong_lots(many)]:
+            for lot in [(), *wrong_lots(rule.many)]:
                 self.assert_number("prices", at, rule.worth, lot, prices)
             self.assertEqual(prices, kept)
 
@@ -136,6 +132,14 @@ def wrong_lots(many):
         wrong = wrong + [(0, 0), (-2, 0), (0, many)]
     if many > 1:
         wrong = wrong + [(1, 0), (0, 1, 1), tuple(range(many))[::-1]]
+    return wrong
+
+
+def wrong_prices(many):
+    """Return pairs of lists that are no prices of `many` things, and of the place that the error names."""
+    wrong = [([1] * (many + 1), None), ([-1] * (many + 1), None)]
+    if many > 0:
+        wrong = wrong + [([1] * (many - 1), None), ([-1] * many, 0), ([1] * (many - 1) + [-1], many - 1)]
     return wrong
 
 
