@@ -1,5 +1,16 @@
 from dearestshelf import errors
-from tests.helper import LISTED_ERRORS, ShelfTest
+from dearestshelf.back import weights_back
+from dearestshelf.desk import Desk
+from dearestshelf.learning import learned
+from dearestshelf.needs import Closed
+from dearestshelf.ratios import Ratio
+from dearestshelf.rules import Listed, Rule, Wish
+from dearestshelf.sales import SalesBook
+from dearestshelf.script import run
+from dearestshelf.tables import Tabled
+from dearestshelf.weights import Weighted
+from dearestshelf.wishes import lists_of
+from tests.helper import LISTED_ERRORS, ShelfTest, fraction
 
 FIELDS = {
     "ZeroBottom": [],
@@ -54,3 +65,42 @@ class ErrorsTest(ShelfTest):
             told = getattr(errors, name)
             with self.assertRaises(errors.ShelfError):
                 raise told(*fields)
+
+    def test_each_error_is_raised(self):
+        rule = Weighted([1, 1], 1)
+        desk = Desk(1)
+        desk.put("tea", 1, 1)
+        book = SalesBook(2, [((0, 1), [1, 0], 1)])
+        calls = {
+            "ZeroBottom": ({}, lambda: Ratio(1, 0)),
+            "BadText": ({}, lambda: Ratio.read("")),
+            "BadLot": ({}, lambda: rule.shares((1, 0))),
+            "NoBuyers": ({}, lambda: Listed(2, [])),
+            "NothingToUndo": ({}, lambda: Desk(1).undo()),
+            "BadNumber": ({"what": "prices", "at": 1}, lambda: rule.best([1, -1])),
+            "TooMany": ({"many": 25, "most": 24}, lambda: Rule(25)),
+            "BadWish": ({"at": None}, lambda: Wish((0, 0))),
+            "Unlike": ({"at": None}, lambda: SalesBook(1) + SalesBook(2)),
+            "BadTable": ({"at": 1}, lambda: Tabled(1, [[1, 0], [1, 2]])),
+            "BadNeed": ({"at": 0}, lambda: Closed(rule, [1, 1], needs=[(0, 0)])),
+            "Unsold": ({"thing": 1}, lambda: learned(rule, book)),
+            "BadName": ({"name": "Tea"}, lambda: desk.put("Tea", 1, 1)),
+            "KnownName": ({"name": "tea"}, lambda: desk.put("tea", 1, 1)),
+            "UnknownName": ({"name": "jam"}, lambda: desk.drop("jam")),
+            "BadLine": ({"line": 1}, lambda: run(desk, "brew tea")),
+        }
+        self.assertEqual(set(FIELDS) - set(calls), {"NotLists", "Crossed"})
+        for name, (fields, call) in calls.items():
+            self.assertEqual(list(fields), FIELDS[name])
+            self.assert_raises(getattr(errors, name), fields, call)
+
+    def test_errors_whose_fields_are_worked_out(self):
+        with self.assertRaises(errors.NotLists) as caught:
+            lists_of(Tabled(2, [[1, 0, 0], [1, 0, 0], [1, 0, 1], [1, 1, 0]]))
+        self.check_error(caught.exception, errors.NotLists)
+        self.assertEqual(set(vars(caught.exception)), {"lot", "thing", "amount"})
+        self.assertLess(fraction(caught.exception.amount), 0)
+        with self.assertRaises(errors.Crossed) as caught:
+            weights_back(2, [((0, 1), [1, 1]), ((0, 1), [1, 2])])
+        self.check_error(caught.exception, errors.Crossed)
+        self.assertEqual(list(vars(caught.exception)), ["ring"])

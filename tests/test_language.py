@@ -26,6 +26,8 @@ BARRED = set(
 )
 UNUSED_SYNTAX = (
     ast.Global, ast.AsyncFunctionDef, ast.AsyncFor, ast.AsyncWith, ast.Await, ast.Import, ast.Div, ast.MatMult,
+    # A class has its own +=, beside which the language allows the sign in few places.
+    ast.AugAssign, ast.AnnAssign, ast.NamedExpr, ast.Nonlocal, ast.Lambda, ast.GeneratorExp, ast.With,
 )  # fmt: skip
 MODULE_LEVEL = (ast.ImportFrom, ast.FunctionDef, ast.ClassDef, ast.Assign, ast.Expr)
 
@@ -154,3 +156,32 @@ class LanguageTest(unittest.TestCase):
             if node.func.id in ("min", "max", "sorted"):
                 words = [ast.unparse(part) for part in [*node.args, *[word.value for word in node.keywords]]]
                 self.assertRegex(" ".join(words), r"\b(int|len)\b", f"{place}: plain numbers alone")
+
+    def test_what_a_read_property_or_an_operator_changes(self):
+        for place, node in nodes(ast.ClassDef):
+            for method in node.body:
+                if not isinstance(method, ast.FunctionDef) or method.name in ("__init__", "__iadd__", "__setitem__"):
+                    continue
+                decorators = [ast.unparse(decorator) for decorator in method.decorator_list]
+                if method.name.startswith("__") and method.name != "__call__" or decorators == ["property"]:
+                    for part in ast.walk(method):
+                        stored = isinstance(part, (ast.Attribute, ast.Subscript)) and not isinstance(part.ctx, ast.Load)
+                        self.assertFalse(stored, f"{place}: {method.name}")
+
+    def test_iterated_objects(self):
+        for place, node in nodes(ast.FunctionDef):
+            if node.name == "__iter__":
+                self.assertRegex(ast.unparse(node), r"def __iter__\(self\):\n    return iter\(self\.\w+\)$", place)
+            if node.name == "__len__":
+                self.assertRegex(ast.unparse(node), r"def __len__\(self\):\n    return len\(self\.\w+\)$", place)
+
+    def test_no_name_is_a_method_and_an_attribute(self):
+        parts = [part for _, node in nodes(ast.ClassDef) for part in node.body]
+        methods = {part.name for part in parts if isinstance(part, ast.FunctionDef)}
+        stored = {node.attr for _, node in nodes(ast.Attribute) if isinstance(node.ctx, ast.Store)}
+        self.assertEqual(methods & stored, set())
+        self.assertNotIn("keys", methods | stored)
+
+    def test_errors_that_are_caught(self):
+        for place, node in nodes(ast.ExceptHandler):
+            self.assertEqual(ast.unparse(node.type), "ShelfError", place)
